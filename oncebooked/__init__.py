@@ -1,0 +1,1 @@
+"""Oncebooked: a bank's night whose books come out right, whatever falls."""
