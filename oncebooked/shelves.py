@@ -291,15 +291,20 @@ def cuts_many(files, deeds):
     return choices_many(tails_of(deeds), MOST_CHOICES)
 
 
+def ways_numbered(tails, number):
+    """The list of a way for each tail, by one number for all: the first file's changes first."""
+    ways = []
+    rest = number
+    for _, tail in tails:
+        many = ways_many(tail)
+        ways.append(way_at(tail, rest % many))
+        rest = rest // many
+    return ways
+
+
 def choices_at(tails, number):
     """The choices with this number: the last file's change first."""
-    choices = []
-    rest = number
-    for _, tail in reversed(tails):
-        many = ways_many(tail)
-        choices.append(way_at(tail, rest % many))
-        rest = rest // many
-    return tuple(reversed(choices))
+    return tuple(reversed(ways_numbered(list(reversed(tails)), number)))
 
 
 def nth_left(files, deeds, number):

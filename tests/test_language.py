@@ -40,6 +40,12 @@ def sources():
     return found
 
 
+def defined_in(tree):
+    """The names of the functions, classes and values of a file."""
+    names = {part.name for part in tree.body if isinstance(part, (ast.FunctionDef, ast.ClassDef))}
+    return names | {target.id for part in tree.body if isinstance(part, ast.Assign) for target in part.targets}
+
+
 class Language(unittest.TestCase):
 
     def setUp(self):
@@ -96,11 +102,20 @@ class Language(unittest.TestCase):
                 self.assertLessEqual(names, LIBRARY[node.module], place)
                 continue
             self.assertTrue(node.module.startswith('oncebooked.'), place)
-            tree = self.trees[node.module.replace('.', '/') + '.py']
-            self.assertLessEqual(names, {part.name for part in tree.body if hasattr(part, 'name')}, place)
+            self.assertLessEqual(names, defined_in(self.trees[node.module.replace('.', '/') + '.py']), place)
+
+    def test_no_two_files_import_from_each_other(self):
+        ahead = {path: {node.module.replace('.', '/') + '.py' for node in tree.body
+                        if isinstance(node, ast.ImportFrom) and node.module not in LIBRARY}
+                 for path, tree in self.trees.items()}
+        while ahead:
+            free = [path for path, needed in ahead.items() if not needed & set(ahead)]
+            self.assertTrue(free, ahead)
+            ahead = {path: needed for path, needed in ahead.items() if path not in free}
 
     def test_nothing_of_the_rest_of_python(self):
-        barred = (ast.GeneratorExp, ast.AsyncFunctionDef, ast.Await, ast.Lambda, ast.Global, ast.Div, ast.Try)
+        barred = (ast.GeneratorExp, ast.AsyncFunctionDef, ast.Await, ast.Lambda, ast.Global, ast.Nonlocal, ast.Div, ast.With,
+                  ast.Yield, ast.YieldFrom, ast.NamedExpr, ast.Match, ast.Starred, ast.SetComp, ast.AnnAssign, ast.Assert)
         for place, node in self.nodes(*barred):
             self.fail(f'{place}: {type(node).__name__}')
         for place, node in self.nodes(ast.Constant):
@@ -112,6 +127,68 @@ class Language(unittest.TestCase):
         for place, node in self.nodes(ast.Raise):
             self.assertIsInstance(node.exc, ast.Call, place)
             self.assertTrue(node.exc.func.id in self.own_names(), place)
+
+    def test_only_own_errors_are_caught(self):
+        own = {node.name for node in self.trees['oncebooked/errors.py'].body if isinstance(node, ast.ClassDef)}
+        for place, node in self.nodes(ast.Try):
+            self.assertEqual((node.finalbody, node.orelse), ([], []), place)
+            for handler in node.handlers:
+                kinds = handler.type.elts if isinstance(handler.type, ast.Tuple) else [handler.type]
+                self.assertLessEqual({kind.id for kind in kinds}, own, place)
+                self.assertIsNone(handler.name, place)
+
+    def test_iterated_at_once(self):
+        takers = {'list', 'tuple', 'dict', 'sorted', 'sum', 'any', 'all', 'enumerate', 'zip', 'min', 'max'}
+        for path, tree in self.trees.items():
+            at_once = set()
+            for node in ast.walk(tree):
+                if isinstance(node, (ast.For, ast.comprehension)):
+                    at_once.add(id(node.iter))
+                if isinstance(node, ast.Call) and getattr(node.func, 'id', None) in takers | {'reversed'} and node.args:
+                    at_once.update(id(part) for part in node.args[:1 if node.func.id != 'zip' else None])
+            for node in ast.walk(tree):
+                if not isinstance(node, ast.Call):
+                    continue
+                name = getattr(node.func, 'id', None) or getattr(node.func, 'attr', None)
+                if name in ('range', 'zip', 'enumerate', 'reversed', 'items', 'keys', 'values', 'map'):
+                    self.assertIn(id(node), at_once, f'{path}:{node.lineno}')
+
+    def test_attributes_and_methods_of_a_class(self):
+        assigned, methods, properties = set(), set(), set()
+        for place, node in self.nodes(ast.ClassDef):
+            functions = [part for part in node.body if isinstance(part, ast.FunctionDef)]
+            own = {part.attr for part in ast.walk(node) if isinstance(part, ast.Attribute) and isinstance(part.ctx, ast.Store)}
+            self.assertFalse(own & {part.name for part in functions}, place)
+            self.assertEqual(len(functions), len({part.name for part in functions}), place)
+            assigned |= own
+            properties |= {part.name for part in functions if part.decorator_list}
+            methods |= {part.name for part in functions if not part.decorator_list}
+        self.assertFalse(properties & (methods | METHODS | assigned))
+        self.assertFalse(assigned & (METHODS - {'count', 'index', 'title', 'find', 'join', 'lower', 'upper', 'split', 'copy'}))
+        called = {id(node.func) for _, node in self.nodes(ast.Call)}
+        for place, node in self.nodes(ast.Attribute):
+            if id(node) not in called:
+                self.assertIn(node.attr, assigned | properties, place)
+
+    def test_properties_change_nothing(self):
+        for place, node in self.nodes(ast.FunctionDef):
+            if node.decorator_list:
+                for part in ast.walk(node):
+                    self.assertNotIsInstance(part, (ast.Assign, ast.AugAssign, ast.Delete, ast.For), place)
+
+    def test_what_a_loop_goes_over_is_not_changed_in_it(self):
+        changing = {'append', 'clear', 'extend', 'insert', 'pop', 'remove', 'reverse', 'setdefault', 'update'}
+        for place, node in self.nodes(ast.For):
+            over = ast.unparse(node.iter)
+            for part in ast.walk(ast.Module(body=node.body, type_ignores=[])):
+                if isinstance(part, ast.Call) and isinstance(part.func, ast.Attribute) and part.func.attr in changing:
+                    self.assertNotIn(ast.unparse(part.func.value), over, place)
+                if isinstance(part, ast.Subscript) and not isinstance(part.ctx, ast.Load):
+                    self.assertNotEqual(ast.unparse(part.value), over, place)
+
+    def test_underscore_is_never_read(self):
+        for place, node in self.nodes(ast.Name):
+            self.assertFalse(node.id == '_' and isinstance(node.ctx, ast.Load), place)
 
     def test_names(self):
         words = {word for word in dir(builtins) if word != '_'}
