@@ -1,5 +1,3 @@
-import unittest
-
 from oncebooked.branch import Branch, lies_there, new_branch
 from oncebooked.entries import Bank, bank_text, batch_text
 from oncebooked.errors import BadBatch, BadLetters, BadNumber, BadNumbers, Differs, Early, NoBranch, Stranger
