@@ -15,11 +15,16 @@ def is_number(value, low, high):
     return is_integer(value) and low <= value <= high
 
 
+def is_word(value, most):
+    """Whether value is a string of one to so many letters a to z."""
+    if not isinstance(value, str) or not 1 <= len(value) <= most:
+        return False
+    return value.isascii() and value.isalpha() and value.islower()
+
+
 def is_name(value):
     """Whether value is a string of one to eight letters a to z."""
-    if not isinstance(value, str) or not 1 <= len(value) <= MOST_LETTERS:
-        return False
-    return all(["a" <= sign <= "z" for sign in value])
+    return is_word(value, MOST_LETTERS)
 
 
 def is_account(value):
@@ -33,6 +38,13 @@ def is_account(value):
 def is_row(value, many):
     """Whether value is a tuple of just so many parts."""
     return isinstance(value, tuple) and len(value) == many
+
+
+def are_ascending(value, low, high):
+    """Whether value is a tuple of ascending integers from low to high, each once."""
+    if not isinstance(value, tuple) or not all([is_number(part, low, high) for part in value]):
+        return False
+    return all([value[at - 1] < value[at] for at in range(1, len(value))])
 
 
 def number_in(word, low, high):

@@ -5,7 +5,7 @@ A year of 365 days takes 366 parts for each millionth of a unit and day, one of 
 
 from math import gcd
 
-from oncebooked.basics import is_integer, is_number, is_row
+from oncebooked.basics import are_ascending, is_integer, is_number, is_row
 from oncebooked.errors import BadEnds, BadNumber, BadRest, BadStretch, BadStretches, BadTable, BadWeights, TooMany
 
 PARTS = 1000000 * 365 * 366
@@ -243,11 +243,7 @@ def stretches_of(balances, rates, years, begin, end):
 
 def are_ends(value):
     """Whether value is an ascending tuple of days at which interest can be paid in."""
-    if not isinstance(value, tuple) or len(value) > MOST_ENDS:
-        return False
-    if not all([is_number(day, 1, MOST_DAYS) for day in value]):
-        return False
-    return all([value[at - 1] < value[at] for at in range(1, len(value))])
+    return are_ascending(value, 1, MOST_DAYS) and len(value) <= MOST_ENDS
 
 
 def paid_in(balances, rates, years, ends, rest):

@@ -66,6 +66,8 @@ class Run:
         for name in names_of(bank):
             new_branch(self._shelves[name], bank, name)
         self._branches = {name: Branch(self._shelves[name]) for name in self._shelves}
+        # The names of those whose shelves and branches a copy has, too.
+        self._shared = {}
 
     @property
     def cuts(self):
@@ -79,6 +81,7 @@ class Run:
         if call[0] == "cut":
             self._cuts[call[1]] = call
             return "noted"
+        self._make_own(place_of_call(call))
         if place_of_call(call) in self._cuts:
             self._do_cut(call)
             return "cut"
@@ -104,9 +107,18 @@ class Run:
         twin._rows = self._rows
         twin._letters = self._letters
         twin._cuts = dict(self._cuts)
-        twin._shelves = {name: self._shelves[name].copy() for name in self._shelves}
-        twin._branches = {name: Branch(twin._shelves[name]) for name in self._shelves}
+        twin._shelves = dict(self._shelves)
+        twin._branches = dict(self._branches)
+        # Each of both copies a shelf as late as it is about to write on it.
+        self._shared = {name: True for name in self._shelves}
+        twin._shared = dict(self._shared)
         return twin
+
+    def _make_own(self, name):
+        if name in self._shared:
+            self._shelves[name] = self._shelves[name].copy()
+            self._branches[name] = Branch(self._shelves[name])
+            del self._shared[name]
 
     def _do_cut(self, call):
         name = place_of_call(call)
@@ -143,6 +155,11 @@ class Run:
         # All have booked all: so these are the letters of the plain night.
         others = [name for name in self._branches if name != branch.name]
         branch.credit(tuple([(other, self._letters[(other, branch.name)]) for other in others]))
+
+
+def branch_in(run, name):
+    """The branch as it lies in the run: it may be asked, and nothing else."""
+    return run._branches[name]
 
 
 def has_booked_all(run, name):

@@ -20,7 +20,7 @@ METHODS = set('''append clear copy count endswith extend find get index insert i
 isupper items join keys ljust lower lstrip partition pop remove replace reverse rfind rjust rpartition rsplit rstrip
 setdefault split splitlines startswith strip update upper values zfill bit_length title capitalize swapcase casefold
 center expandtabs removeprefix removesuffix rindex isascii isdecimal isnumeric istitle isidentifier isprintable'''.split())
-SPECIAL = {'__init__', '__eq__', '__repr__', '__str__', '__len__'}
+SPECIAL = {'__init__', '__eq__', '__repr__', '__str__', '__len__', '__contains__'}
 BARRED = set('''register mro elements open input law version_info with_traceback add_note attrgetter breakpoint builtins
 compile copyright credits delattr dir eval exec exit gc globals help id importlib license locals methodcaller os quit
 setattr vars sys'''.split())
@@ -135,7 +135,10 @@ class Language(unittest.TestCase):
             for handler in node.handlers:
                 kinds = handler.type.elts if isinstance(handler.type, ast.Tuple) else [handler.type]
                 self.assertLessEqual({kind.id for kind in kinds}, own, place)
-                self.assertIsNone(handler.name, place)
+                read = [part for part in ast.walk(handler) if isinstance(part, ast.Name) and part.id == handler.name]
+                values = [part for part in ast.walk(handler) if isinstance(part, ast.Attribute) and part.attr == 'value'
+                          and part.value in read]
+                self.assertEqual(len(read), len(values), place)
 
     def test_iterated_at_once(self):
         takers = {'list', 'tuple', 'dict', 'sorted', 'sum', 'any', 'all', 'enumerate', 'zip', 'min', 'max'}
@@ -152,6 +155,22 @@ class Language(unittest.TestCase):
                 name = getattr(node.func, 'id', None) or getattr(node.func, 'attr', None)
                 if name in ('range', 'zip', 'enumerate', 'reversed', 'items', 'keys', 'values', 'map'):
                     self.assertIn(id(node), at_once, f'{path}:{node.lineno}')
+
+    def test_what_the_library_tells_is_iterated_at_once(self):
+        for path, tree in self.trees.items():
+            over = {id(node.iter) for node in ast.walk(tree) if isinstance(node, (ast.For, ast.comprehension))}
+            for node in ast.walk(tree):
+                if isinstance(node, ast.Call) and getattr(node.func, 'id', None) in LIBRARY['itertools']:
+                    self.assertIn(id(node), over, f'{path}:{node.lineno}')
+
+    def test_functions_in_tables_get_a_name_ahead_of_their_call(self):
+        for place, node in self.nodes(ast.Call):
+            self.assertIsInstance(node.func, (ast.Name, ast.Attribute), place)
+
+    def test_exponents_are_literals(self):
+        for place, node in self.nodes(ast.BinOp):
+            if isinstance(node.op, ast.Pow):
+                self.assertIsInstance(node.right, ast.Constant, place)
 
     def test_attributes_and_methods_of_a_class(self):
         assigned, methods, properties = set(), set(), set()
@@ -220,11 +239,14 @@ class Language(unittest.TestCase):
             self.assertNotIn(node.attr, ('sort', 'args', 'format', 'mro', 'register', 'open', 'input'), place)
             self.assertFalse(node.attr.startswith('__'), place)
 
-    def test_sets_are_not_stored(self):
-        for place, node in self.nodes(ast.Assign, ast.Return):
-            self.assertNotIsInstance(node.value, (ast.Set, ast.SetComp), place)
-            if isinstance(node.value, ast.Call):
-                self.assertNotEqual(getattr(node.value.func, 'id', None), 'set', place)
+    def test_sets_are_only_measured(self):
+        for path, tree in self.trees.items():
+            measured = {id(node.args[0]) for node in ast.walk(tree)
+                        if isinstance(node, ast.Call) and getattr(node.func, 'id', None) in ('len', 'sorted') and node.args}
+            for node in ast.walk(tree):
+                if isinstance(node, ast.Call) and getattr(node.func, 'id', None) == 'set':
+                    self.assertIn(id(node), measured, f'{path}:{node.lineno}')
+                self.assertNotIsInstance(node, (ast.Set, ast.SetComp), path)
 
     def test_strings(self):
         barred = re.compile(r'\b(type|typing|enum|Enum|Generic|Protocol|ABC|namedtuple|NamedTuple)\b|dataclass|overload')
