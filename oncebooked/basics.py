@@ -40,11 +40,14 @@ def is_row(value, many):
     return isinstance(value, tuple) and len(value) == many
 
 
+def ascends(row):
+    """Whether each part of the row is greater than the one ahead of it."""
+    return all([row[at - 1] < row[at] for at in range(1, len(row))])
+
+
 def are_ascending(value, low, high):
     """Whether value is a tuple of ascending integers from low to high, each once."""
-    if not isinstance(value, tuple) or not all([is_number(part, low, high) for part in value]):
-        return False
-    return all([value[at - 1] < value[at] for at in range(1, len(value))])
+    return isinstance(value, tuple) and all([is_number(part, low, high) for part in value]) and ascends(value)
 
 
 def number_in(word, low, high):

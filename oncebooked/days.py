@@ -1,5 +1,6 @@
 """Days: scripts of a night, with power that goes amid their lines, and what they show."""
 
+from oncebooked.entries import branch_of
 from oncebooked.errors import DayOver, TooEarly
 from oncebooked.night import branch_in, left_over, left_to_do, on_the_way, place_of_call, Run
 from oncebooked.scripts import read_script
@@ -56,29 +57,35 @@ def do_dawn(run, _):
 
 def show_row(run, words):
     """The bookings of a branch."""
-    return tuple([f"{word} {payer} {payee} {amount}" for word, payer, payee, amount in branch_in(run, words[1]).row])
+    row = branch_in(run, words[1]).row
+    return tuple([f"{word} {payer} {payee} {amount}" for word, payer, payee, amount in row])
 
 
 def show_balance(run, words):
     """The balance of an account."""
-    told = [balance for account, balance in branch_in(run, words[1].split(".")[0]).balances if account == words[1]]
-    return (f"{words[1]}: {told[0]}",)
+    asked = words[1]
+    balances = {account: balance for account, balance in branch_in(run, branch_of(asked)).balances}
+    return (f"{asked}: {balances[asked]}",)
 
 
 def show_letters(run, words):
     """How many letters between two branches were heard, of how many."""
-    sent = branch_in(run, words[1]).letters_to(words[2], 0)
-    return (f"{branch_in(run, words[2]).heard(words[1])} of {len(sent)}",)
+    one, other = words[1:]
+    sent = branch_in(run, one).letters_to(other, 0)
+    heard = branch_in(run, other).heard(one)
+    return (f"{heard} of {len(sent)}",)
 
 
 def show_way(run, _):
     """The sum of what is on the way."""
-    return (f"on the way: {sum([letter[4] for letter in on_the_way(run)])}",)
+    total = sum([letter[4] for letter in on_the_way(run)])
+    return (f"on the way: {total}",)
 
 
 def show_left(run, _):
     """How much is left over."""
-    return (f"left over: {left_over(run)}",)
+    many = left_over(run)
+    return (f"left over: {many}",)
 
 
 ACTIONS = {"dawn": do_dawn, "row": show_row, "balance": show_balance, "letters": show_letters, "way": show_way,

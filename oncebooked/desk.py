@@ -12,8 +12,6 @@ NIGHT = "night"
 # How many parts the deeds have, the word among them.
 PARTS = {"bank": 3, "night": 4, "call": 3, "dawn": 2, "copy": 3, "drop": 2}
 
-# How many numbers stand behind the name of a branch in calls, but for "carry".
-NUMBERS = {"credit": 0, "take": 1, "post": 1, "cut": 2}
 
 
 def is_deed(value):
@@ -234,37 +232,26 @@ def are_names(words):
 
 
 def read_call(words):
-    """The call that these words tell; None if they have not the form of one."""
-    if len(words) < 2:
-        return None
-    names = 2 if words[0] == "carry" else 1
-    parts = [count_in(word) for word in words[1 + names:]]
-    if len(words) < 1 + names or not are_names(words[1:1 + names]) or None in parts:
-        return None
-    if words[0] == "carry":
-        return tuple(words[:3]) + (tuple(parts),)
-    if NUMBERS.get(words[0]) != len(parts):
-        return None
-    return tuple(words[:2] + parts)
+    """The call that these words tell; what is no call if they tell none."""
+    if words[:1] == ["carry"]:
+        return tuple(words[:3]) + (tuple([count_in(word) for word in words[3:]]),)
+    return tuple(words[:2] + [count_in(word) for word in words[2:]])
 
 
-def read_line(line):
+def read_first(line):
     """A deed as its first line tells it, with the number of lines in the place of a text or a night.
 
-    None for a line that has no such form.
+    None if such a line has not its form. All others stand alone: so it is enough that they are refused without it.
     """
     words = line.split(" ")
-    word = words[0]
-    if word == "call" and len(words) > 2 and is_name(words[1]):
-        call = read_call(words[2:])
-        return None if call is None else (word, words[1], call)
-    many = PARTS.get(word)
-    if word == "call" or many != len(words):
+    if words[0] == "call":
+        return tuple(words[:2]) + (read_call(words[2:]),)
+    if words[0] not in ("bank", "night"):
+        return tuple(words)
+    count = count_in(words[-1], 1 if words[0] == "bank" else 0)
+    if len(words) != PARTS[words[0]] or not are_names(words[1:-1]) or count is None:
         return None
-    if word in ("bank", "night"):
-        count = count_in(words[-1], 1 if word == "bank" else 0)
-        return tuple(words[:-1]) + (count,) if are_names(words[1:-1]) and count is not None else None
-    return tuple(words) if are_names(words[1:]) else None
+    return tuple(words[:-1]) + (count,)
 
 
 def night_in(bank, lines):
@@ -283,28 +270,28 @@ def night_in(bank, lines):
     return tuple(night) if at == len(lines) else None
 
 
-def whole_deed(desk, first, lines):
-    """The deed with this first line, as read_line tells it, and these lines of a text; it may be refused."""
+def lead_by(desk, first, lines):
+    """Leads the desk by the deed with this first line, as read_first tells it, and these lines of a text."""
     if first[0] == "bank":
-        return first[:2] + ("\n".join(lines),)
-    if first[0] != "night":
-        return first
-    is_bank = first[2] in desk and desk.thing_kind(first[2]) == BANK
-    return first[:3] + (night_in(desk.thing_of(first[2]), lines) if is_bank else None,)
+        desk.lead(first[:2] + ("\n".join(lines),))
+    elif first[0] == "night":
+        desk.lead(first[:3] + (night_in(desk._asked_for(first[2], BANK), lines),))
+    else:
+        desk.lead(first)
 
 
 def lead_lines(desk, lines, begin):
     """Leads the desk by all deeds that stand in the lines from this place on; raises BadDesk."""
     at = begin
     while at < len(lines):
-        first = read_line(lines[at])
+        first = read_first(lines[at])
         if first is None:
             raise BadDesk(at + 1)
         count = first[-1] if first[0] in ("bank", "night") else 0
         if at + 1 + count > len(lines):
             raise BadDesk(len(lines) + 1)
         try:
-            desk.lead(whole_deed(desk, first, lines[at + 1:at + 1 + count]))
+            lead_by(desk, first, lines[at + 1:at + 1 + count])
         except BookError:
             raise BadDesk(at + 1) from None
         at += 1 + count

@@ -2,7 +2,7 @@
 
 from itertools import permutations
 
-from oncebooked.basics import is_integer, is_name, is_number, is_row, number_in
+from oncebooked.basics import ascends, is_integer, is_name, is_number, is_row, number_in
 from oncebooked.errors import BadDone, BadNumber, BadRule, BadSteps, BadWeaving, BadWords, TooMany
 from oncebooked.weavings import behind, can_be, first_state, goes_wrong, is_let, SAFE, shortest_wrong
 
@@ -57,7 +57,7 @@ def are_done(steps, value):
     """Whether value is an ascending tuple of names of steps that can be done, and no others."""
     if not isinstance(value, tuple) or not all([isinstance(name, str) for name in value]):
         return False
-    if not all([value[at - 1] < value[at] for at in range(1, len(value))]):
+    if not ascends(value):
         return False
     befores = {name: needed for name, _, needed in steps.rows}
     if not all([name in befores for name in value]):
@@ -194,9 +194,7 @@ def is_situation(value):
 
 def is_rule(value):
     """Whether any value is a rule."""
-    if not isinstance(value, tuple) or not all([is_situation(part) for part in value]):
-        return False
-    return all([value[at - 1] < value[at] for at in range(1, len(value))])
+    return isinstance(value, tuple) and all([is_situation(part) for part in value]) and ascends(value)
 
 
 def holds(word, situation):
@@ -209,7 +207,7 @@ def rule_of(words):
     """The rule that lets a write exactly if all for which the words stand holds."""
     if not isinstance(words, tuple) or not all([isinstance(word, str) and word in WORDS for word in words]):
         raise BadWords(words)
-    if not all([words[at - 1] < words[at] for at in range(1, len(words))]):
+    if not ascends(words):
         raise BadWords(words)
     sides = (False, True)
     told = [(newest, order, held, done) for newest in sides for order in (-1, 0, 1) for held in sides for done in sides]

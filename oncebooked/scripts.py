@@ -66,7 +66,7 @@ OTHERS = {"dawn": is_alone, "row": is_of_branch, "balance": is_balance, "letters
 
 def is_call_line(bank, words):
     """Whether the words are those of a line that calls a branch."""
-    if words == [] or words[0] not in CALLS:
+    if words[0] not in CALLS:
         return False
     form = CALLS[words[0]]
     return form(bank, words)

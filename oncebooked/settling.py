@@ -1,6 +1,6 @@
 """Accounts side by side: their statements, and the fewest transfers that settle what is owed."""
 
-from oncebooked.basics import is_account, is_integer, is_number, is_row
+from oncebooked.basics import ascends, is_account, is_integer, is_number, is_row
 from oncebooked.errors import BadEntries, BadFirsts, BadNets, NoAccount
 from oncebooked.statements import statement_text
 
@@ -33,7 +33,7 @@ def are_sums(value, most):
     for part in value:
         if not is_row(part, 2) or not is_account(part[0]) or not is_number(part[1], -MOST_BALANCE, MOST_BALANCE):
             return False
-    return all([value[at - 1][0] < value[at][0] for at in range(1, len(value))])
+    return ascends([part[0] for part in value])
 
 
 def check_books(firsts, entries):
@@ -105,7 +105,7 @@ def lots_many(amounts):
     sums = [0]
     told = [(0, None)]
     for places in range(1, 1 << len(amounts)):
-        ahead = [at for at in range(len(amounts)) if places >> at & 1]
+        ahead = [at for at in range(len(amounts)) if (places >> at) & 1]
         many, last = max([(told[places ^ (1 << at)][0], at) for at in ahead])
         sums.append(sums[places ^ (1 << last)] + amounts[last])
         told.append((many + 1 if sums[places] == 0 else many, last))
@@ -124,7 +124,7 @@ def lots_of(nets):
         last = told[places][1]
         lots[-1].append(nets[last])
         total += nets[last][1]
-        places ^= 1 << last
+        places = places ^ (1 << last)
     return [sorted(lot) for lot in lots]
 
 
@@ -183,7 +183,7 @@ def shows_settling(nets, value):
     transfers = value[1]
     if not all([is_transfer(transfer) for transfer in transfers]):
         return False
-    if not all([transfers[at - 1] < transfers[at] for at in range(1, many)]):
+    if not ascends(transfers):
         return False
     # So few leave nobody's sum at 0, and nobody but those of the nets has any part in them.
     sums = changed_by(transfers)

@@ -4,7 +4,7 @@ A tail is the list of the deeds on one file behind the last sync. A way is a pai
 so many deeds of a tail are done, and, if signs is not -1, so many signs of the next line are torn.
 """
 
-from oncebooked.basics import is_name, is_number, is_row
+from oncebooked.basics import ascends, is_name, is_number, is_row
 from oncebooked.errors import BadChoices, BadDeeds, BadFiles, BadLine, BadLines, BadName
 from oncebooked.errors import BadNumber, Full, NotLeft, TooMany
 
@@ -62,7 +62,7 @@ def are_files(value):
         return False
     if not all([is_file(part) for part in value]):
         return False
-    return all([value[at - 1][0] < value[at][0] for at in range(1, len(value))])
+    return ascends([part[0] for part in value])
 
 
 def rows_of(files):

@@ -27,7 +27,7 @@ def bit_of(value):
 
 def values_in(bits):
     """The list of the values of which bits tell, ascending."""
-    return [at - MOST_VALUE for at in range(VALUES) if bits >> at & 1]
+    return [at - MOST_VALUE for at in range(VALUES) if (bits >> at) & 1]
 
 
 class Going:
@@ -65,7 +65,7 @@ class Going:
     def write(self, cell, value):
         """Writes the value to the cell with this number."""
         self.have[cell] = value
-        self.kept[cell] |= bit_of(value)
+        self.kept[cell] = self.kept[cell] | bit_of(value)
 
 
 def path_of(way, standing):
@@ -102,8 +102,8 @@ def is_kept(kept, standing):
 def rest_bits(kept):
     """The bits of all ways in which S, T and the note can be."""
     noted = kept[NOTE] >> MOST_VALUE
-    beside = sum([noted << (2 * at) for at in range(VALUES) if kept[3] >> at & 1])
-    return sum([beside << (2 * VALUES * at) for at in range(VALUES) if kept[2] >> at & 1])
+    beside = sum([noted << (2 * at) for at in range(VALUES) if (kept[3] >> at) & 1])
+    return sum([beside << (2 * VALUES * at) for at in range(VALUES) if (kept[2] >> at) & 1])
 
 
 def rest_at(number):
@@ -159,7 +159,7 @@ class Ways:
             news = (have | left[pair]) ^ have
             if news:
                 field[pair] = have | news
-                found.extend([pair + rest_at(at) for at in range(news.bit_length()) if news >> at & 1])
+                found.extend([pair + rest_at(at) for at in range(news.bit_length()) if (news >> at) & 1])
         return found
 
 

@@ -20,7 +20,7 @@ def first_state(parts):
 
 def order_of(number, greatest):
     """Whether the number is less than the greatest one that was let, the same, or greater: -1, 0 or 1."""
-    if greatest == 0 or number > greatest:
+    if number > greatest:
         return 1
     return 0 if number == greatest else -1
 

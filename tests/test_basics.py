@@ -1,6 +1,6 @@
 import unittest
 
-from oncebooked.basics import is_account, is_integer, is_name, is_number, is_row, number_in
+from oncebooked.basics import are_ascending, ascends, is_account, is_integer, is_name, is_number, is_row, is_word, number_in
 from tests.values import odd_values
 
 
@@ -16,6 +16,22 @@ class Basics(unittest.TestCase):
             self.assertIs(is_name(value), True)
         for value in ('', 'abcdefghi', 'A', 'a1', 'a b', 'a.', '`', '{', '\u00e9', 'a\n', None, 1, ('a',), ['a'], True):
             self.assertIs(is_name(value), False)
+
+    def test_words(self):
+        for value in ('a', 'ab', 'zzz'):
+            self.assertIs(is_word(value, 3), True)
+        for value in ('', 'abcd', 'aB', 'a1', 'a\n', '\u00e9', '\u00aa', 'a ', None, 1, ('a',)):
+            self.assertIs(is_word(value, 3), False)
+
+    def test_ascending(self):
+        for row in ((), (1,), (1, 2), ['a', 'b', 'c'], ((1, 2), (1, 3))):
+            self.assertIs(ascends(row), True)
+        for row in ((1, 1), (2, 1), (1, 3, 2), (1, 3, 3), ['b', 'a']):
+            self.assertIs(ascends(row), False)
+        for value in ((), (0,), (0, 1, 5), (5,)):
+            self.assertIs(are_ascending(value, 0, 5), True)
+        for value in ([], [1], (6,), (-1,), (1, 1), (2, 1), (True,), ('1',), (0, None), None, 1, {}):
+            self.assertIs(are_ascending(value, 0, 5), False)
 
     def test_accounts(self):
         self.assertIs(is_account('abcdefgh.z'), True)

@@ -1,8 +1,11 @@
 import random
+from unittest import mock
 
+from oncebooked import days
 from oncebooked.days import Day, day_report, plain_day
 from oncebooked.entries import Bank
 from oncebooked.errors import BadDay, DayOver
+from oncebooked.night import Run
 from oncebooked.plainly import plain_balances
 from tests import nights
 from tests.test_shelves import Raising
@@ -105,23 +108,43 @@ def shown_plainly(bank, night, lines):
     return tuple(row for line in lines for row in plain.shown_by(line))
 
 
+def drawn_bank(draw):
+    """A bank of two or three branches with accounts of some wealth."""
+    names = draw.sample(nights.NAMES, draw.choice((2, 2, 3)))
+    accounts = [f'account {name}.{word} {draw.randint(0, 60)} {draw.randint(0, 9)}' for name in names for word in ('ann', 'bob')]
+    draw.shuffle(accounts)
+    return '\n'.join([f'branch {name} {draw.randint(0, 3)}' for name in names] + accounts)
+
+
+def drawn_night(draw, bank):
+    """A night of which most entries go to another branch."""
+    accounts = list(nights.accounts_in(bank))
+    night = []
+    for name, many in nights.branches_in(bank):
+        own = [account for account in accounts if nights.lies_at(account, name)]
+        rows = []
+        for number in range(1, many + 1):
+            pairs = [(draw.choice(own), draw.choice(accounts), draw.randint(1, 25)) for _ in range(draw.randint(1, 5))]
+            rows.append(nights.batch_of(number, name, [entry for entry in pairs if entry[0] != entry[1]]))
+        night.append(tuple(rows))
+    return tuple(night)
+
+
 def drawn_call(draw, bank, free):
     """A line that calls a branch; free tells how many batches each branch may still take, and is kept."""
     names = nights.names_in(bank)
     name = draw.choice(names)
-    word = draw.choice(('take', 'take', 'post', 'post', 'carry', 'carry', 'credit'))
-    if word == 'take':
-        if not free[name]:
-            word = 'credit'
-        else:
-            free[name] -= 1
-    if word == 'post':
-        return f'post {name} {draw.choice((0, 1, 1, 2, 5, 2500))}'
-    if word == 'carry' and len(names) > 1:
+    word = draw.choice(('take', 'take', 'take', 'post', 'post', 'carry', 'carry', 'carry', 'credit'))
+    if word == 'take' and free[name]:
+        free[name] -= 1
+        return f'take {name}'
+    if word == 'credit':
+        return f'credit {name}'
+    if word == 'carry':
         one, other = draw.sample(names, 2)
-        numbers = sorted(draw.choice((1, 1, 2, 3, 4, 10 ** 6)) for _ in range(draw.choice((0, 0, 1, 3, 6))))
+        numbers = sorted(draw.choice((1, 1, 2, 2, 3, 4, 5, 10 ** 6)) for _ in range(draw.choice((0, 0, 1, 2, 4, 9))))
         return ' '.join(['carry', one, other] + [str(number) for number in numbers])
-    return f'{"credit" if word == "carry" else word} {name}'
+    return f'post {name} {draw.choice((0, 1, 2, 3, 5, 2500))}'
 
 
 def drawn_line(draw, bank, free):
@@ -129,14 +152,21 @@ def drawn_line(draw, bank, free):
     if draw.random() < 0.6:
         line = drawn_call(draw, bank, free)
         return f'cut {draw.choice((1, 2, 3, 20))} {line}' if draw.random() < 0.5 else line
-    if draw.random() < 0.06:
+    if draw.random() < 0.04:
         for name in free:
             free[name] = 0
         return 'dawn'
-    shows = ['way', 'left', f'row {draw.choice(names)}']
-    shows += [f'balance {draw.choice(accounts)}'] if accounts else []
-    shows += ['letters ' + ' '.join(draw.sample(names, 2))] if len(names) > 1 else []
-    return draw.choice(shows)
+    return draw.choice(['way', 'left', f'row {draw.choice(names)}', f'balance {draw.choice(accounts)}', f'balance {draw.choice(accounts)}',
+                        'letters ' + ' '.join(draw.sample(names, 2)), 'letters ' + ' '.join(draw.sample(names, 2))])
+
+
+def to_dawn(draw, bank):
+    """The lines that lead to dawn one by one, many of them cut."""
+    branches = nights.branches_in(bank)
+    names = [name for name, _ in branches]
+    lines = [f'take {name}' for name, many in branches for _ in range(many)] + [f'post {name} 2500' for name in names]
+    lines += [f'carry {one} {other}' for one in names for other in names if one != other] + [f'credit {name}' for name in names]
+    return [draw.choice(('', '', 'cut 1 ', 'cut 4 ')) + line for line in lines]
 
 
 def mixed(draw, night):
@@ -148,23 +178,33 @@ def mixed(draw, night):
     return found
 
 
-def drawn_script(seed, most=40):
-    draw, bank, night = nights.drawn(seed, 3)
+def drawn_script(seed, most=60):
+    draw = random.Random(seed)
+    bank = drawn_bank(draw)
+    night = drawn_night(draw, bank)
     free = dict(nights.branches_in(bank))
-    lines = [drawn_line(draw, bank, free) for _ in range(draw.randint(0, most))]
+    if draw.random() < 0.3:
+        shows = [drawn_line(draw, bank, {name: 0 for name in free}) for _ in range(most)]
+        lines = [row for line in to_dawn(draw, bank) for row in (line, draw.choice(shows))]
+        lines = [line for line in lines if line != 'dawn']
+    else:
+        lines = [drawn_line(draw, bank, free) for _ in range(draw.randint(0, most))]
     return bank, night, lines, '\n'.join([bank] + mixed(draw, night) + ['night'] + lines)
 
 
 class OfDays(Raising):
 
     def test_beside_a_night_without_shelves_and_cuts(self):
-        for seed in range(150):
+        heard = 0
+        for seed in range(200):
             bank, night, lines, text = drawn_script(seed)
             shown = shown_plainly(bank, night, lines)
+            heard += len([row for row in shown if ' of ' in row and row[0] != '0'])
             self.assertTrue(same(day_report(text), shown), text)
             plain = plain_day(text)
             self.assertNotIn('\ncut ', plain)
             self.assertEqual((day_report(plain), plain_day(plain)), (shown, plain))
+        self.assertGreater(heard, 50)
 
     def test_line_by_line(self):
         for seed in range(40):
@@ -221,7 +261,33 @@ class OfDays(Raising):
             self.assertEqual(self.shown(f'cut {cuts} take east', f'cut {cuts} take east', 'left'), ('left over: 10',))
             self.assertEqual(self.shown('take east', 'post east 1', f'cut {cuts} carry east west', 'letters east west'), ('1 of 1',))
 
+    def test_the_power_goes_as_often_as_told(self):
+        told = []
+
+        class Watched(Run):
+
+            def go_on(self, call):
+                told.append((call, super().go_on(call)))
+                return told[-1][1]
+
+        take, post, carry = ('take', 'east', 1), ('post', 'east', 3), ('carry', 'east', 'west', (1,))
+        lines = ['cut 3 take east', 'cut 20 post east 3', 'cut 1 carry east west', 'cut 5 credit west', 'row east']
+        with mock.patch.object(days, 'Run', Watched):
+            day = Day('\n'.join(FIRST + lines))
+            for _ in lines:
+                day.go_on()
+        for call, place, many in ((take, 'east', 3), (post, 'east', 20), (carry, 'west', 1)):
+            ahead = [row for row in told if row[0] == call]
+            self.assertEqual([shown for _, shown in ahead], ['cut'] * many + ['done'])
+            at = told.index(ahead[0])
+            cuts = [row for row in told[at - 1:] if row[0][0] == 'cut'][:many]
+            self.assertEqual({(call[1], shown) for call, shown in cuts}, {(place, 'noted')})
+        self.assertEqual(len([row for row in told if row[1] == 'noted']), 24)
+
     def test_carry_numbers(self):
+        one = ['take east', 'post east 3']
+        for numbers, heard in (('1', 1), ('2', 0), ('1 1', 1), ('1000000', 0), ('1 2', 1)):
+            self.assertEqual(self.shown(*one, f'carry east west {numbers}', 'letters east west'), (f'{heard} of 1',))
         lines = ['take east', 'post east 3', 'carry east west 2', 'letters east west', 'carry east west 1 1 1000000',
                  'letters east west', 'carry east west 1 2 2', 'letters east west']
         text = '\n'.join(FIRST + lines)

@@ -58,6 +58,7 @@ class OfFaults(Raising):
             self.faulty(3, ['stand 0', 'note a 0', line])
             self.faulty(3, ['stand 9', 'note a 9', line, 'x'])
         self.faulty(3, ['stand 0', 'note b 0', 'note a 0'] + FULL[1:])
+        self.faulty(4, ['stand 0', 'note a 0', 'note c 0', 'note b 0'] + FULL[1:])
         self.faulty(BEHIND, FULL + ['note a 0'])
         self.faulty(7, ['stand 1'] + BANK + ['note a 1'])
 
@@ -87,6 +88,12 @@ class OfFaults(Raising):
                      'copy', 'copy n', 'copy n M', 'copy n m m', 'drop', 'drop N', 'drop n ', ' drop n', 'Drop n', 'undo', 'redo'):
             self.faulty(BEHIND, FULL + [line])
             self.faulty(BEHIND, FULL + [line, 'x', 'y'])
+
+    def test_first_lines_of_texts_with_a_word_too_many_or_too_few(self):
+        for line, rows in (('bank a b 1', ['branch a 0']), ('bank 1', ['branch a 0']), ('night m b c 3', RUN[1:]),
+                           ('night m 3', RUN[1:]), ('night b 3', RUN[1:])):
+            self.faulty(BEHIND, FULL + [line] + rows)
+            self.faulty(BEHIND, FULL + [line])
 
     def test_deeds_that_are_refused(self):
         for line in ('call n take east 0', 'call n take east 2', 'call n take west 1', 'call n take up 1', 'call x take east 1',

@@ -153,7 +153,7 @@ def no_ways():
         (('read', '', 'x'),), (('read', 'A', ''),), (('read', ['A'], 'x'),), (('write', 'A', 'x'),), (('write', 'A', 'x', 2),),
         (('write', 'A', 'x', -2),), (('write', 'A', 'x', True),), (('write', 'A', 'x', None),), (('write', 'note', 'x', 0),),
         (('write', 'A', 'xy', 0),), (('skip',),), (('skip', 0),), (('skip', 2),), (WAIT, ('skip', 1)), (('skip', True),),
-        (('skip', '1'),), (('skip', None), WAIT), (('jump', 1),), (WAIT,) * 21, (WAIT, None), ((),)]
+        (('skip', '1'),), (('skip', None), WAIT), (('jump', 1),), (('jump', 'A', 'x'),), (('Write', 'A', 'x', 0),), (('read', 'A', 'x', 0),), (WAIT,) * 21, (WAIT, None), ((),)]
 
 
 def no_standings():
@@ -189,7 +189,7 @@ class OfForms(Raising):
             self.refused(BadStanding, value, steps_run, PLAIN, value)
             self.refused(BadStanding, value, left_behind, PLAIN, value, None)
             self.refused(BadStanding, value, begun_with, PLAIN, value)
-        for value in ((2, 0, 0, 0, 0), (0, -2, 0, 0, 0), (0, 0, 1, 0, 0), (0, 0, 0, -1, 0), (0, 0, 0, 0, 1)):
+        for value in ((2, 0, 0, 0, 0), (-2, 0, 0, 0, 0), (0, -2, 0, 0, 0), (0, 2, 0, 0, 0), (0, 0, 1, 0, 0), (0, 0, 0, -1, 0), (0, 0, 0, 0, 1)):
             self.refused(BadStanding, value, begun_with, PLAIN, value)
         for value in odd_values() + [8, -1]:
             if not is_int(value, 0, 7):
@@ -230,6 +230,9 @@ class OfRuns(Raising):
         self.assertEqual(begun_with((), (1, -1, 0, 0, 0)), ((1, -1, 0, 0, 0),))
         counting = (('read', 'S', 'x'), ('write', 'S', 'x', 1), FENCE)
         self.assertEqual(begun_with(counting, ZERO), tuple((0, 0, s, 0, 0) for s in range(4)))
+        # All standings of S and T are come to, down to the least ones.
+        down = (('read', 'S', 'x'), ('write', 'S', 'x', -1), ('read', 'T', 'y'), ('write', 'T', 'y', -1), FENCE)
+        self.assertEqual(begun_with(down, ZERO), tuple((0, 0, s, t, 0) for s in range(-3, 1) for t in range(-3, 1)))
 
 
 class OfJudging(Raising):
@@ -272,6 +275,47 @@ class OfJudging(Raising):
             lost = first[:4] + (1,)
             self.assertIs(shows_wrong(PLAIN, ('wrong', first, ((6, lost), (1, lost)))), True)
             self.assertIs(shows_wrong(PLAIN, ('wrong', first, ((6, lost), (0, lost)))), False)
+
+    def test_a_story_of_three_runs(self):
+        # Whoever finds the note writes A and B once more, and spoils T behind that: so only the next run ends wrong.
+        written = (('read', 'S', 'x'), ('write', 'A', 'x', 0), ('read', 'T', 'y'), ('write', 'B', 'y', 0), FENCE)
+        slow = (('skip', 14),) + ONCE[1:8] + written + (('skip', 20),) + written + (('write', 'T', 'y', 1),)
+        self.assertEqual(Judge(slow).fewest(), 3)
+        told = judged_way(slow)
+        self.assertTrue(is_told(slow, told, 3), told)
+        for value in [told] + near_values(told):
+            self.assertIs(shows_wrong(slow, value), is_told(slow, value, 3))
+
+    def moved(self, cells, down, up):
+        """A way without any care: S, T come to be A, B so many below, above, and then A, B one less, one more."""
+        steps = ()
+        for (cell, store), changes in zip(cells, (down, up)):
+            for at, change in enumerate(changes):
+                steps += (('read', cell if at == 0 else store, 'x'), ('write', store, 'x', change))
+            steps = steps[:-1] + (('write', cell, 'x', changes[-1]),)
+        return steps + (FENCE,)
+
+    def test_each_first_standing_is_looked_at(self):
+        cells = (('A', 'S'), ('B', 'T'))
+        plain = ((-1,), (1,))
+        for changes, place, value in (((1, 1, 1, -1, -1, -1, -1), 0, 1), ((-1, -1, -1, 1, 1), 0, -1),
+                                      ((1, 1, 1, -1, -1), 1, 1), ((-1, -1, -1, 1, 1, 1, 1), 1, -1)):
+            way = self.moved(cells, *[changes if at == place else plain[at] for at in (0, 1)])
+            # What is too great or too small is cut off: so one run is wrong for this first value alone.
+            told = judged_way(way)
+            self.assertEqual((Judge(way).fewest(), len(told[2]), told[1][place]), (1, 1, value))
+            self.assertTrue(is_told(way, told, 1))
+        for changes, place in (((1, 1, -1, -1, -1), 0), ((-1, -1, 1), 0), ((1, 1, -1), 1), ((-1, -1, 1, 1, 1), 1)):
+            way = self.moved(cells, *[changes if at == place else plain[at] for at in (0, 1)])
+            # Here it would be wrong for a value that no first standing has.
+            told = judged_way(way)
+            self.assertEqual((Judge(way).fewest(), len(told[2])), (2, 2))
+            self.assertTrue(is_told(way, told, 2))
+
+    def test_the_end_that_is_told_is_a_wrong_one(self):
+        # Of the two standings that the last run can leave, the lesser one is right.
+        way = (('read', 'B', 'y'), ('write', 'B', 'y', 1), FENCE, ('read', 'A', 'x'), ('write', 'A', 'x', -1))
+        self.assertEqual(judged_way(way), ('wrong', (-1, -1, 0, 0, 0), ((5, (-1, 0, 0, 0, 0)),)))
 
     def test_shows_wrong_of_all_stories_of_one_run(self):
         way = (('read', 'A', 'x'), ('write', 'A', 'x', -1), FENCE, ('read', 'B', 'y'), ('write', 'B', 'y', 1))

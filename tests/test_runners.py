@@ -127,15 +127,16 @@ class OfHands(Raising):
 
     def test_beside_all_plans(self):
         draw = random.Random(83)
-        for _ in range(60):
-            text = drawn_web(draw, 4)
-            web, steps, hands = rows_of(text), Steps(text), draw.randint(1, 3)
-            last = sum(ticks for ticks, _ in web.values())
-            plans = [plan for plan in itertools.product(range(last), repeat=len(web)) if is_done_by(web, hands, plan)]
-            least = min(end_of(web, plan) for plan in plans)
+        for _ in range(150):
+            text = drawn_web(draw, 4, 4)
+            web, steps, hands = rows_of(text), Steps(text), draw.choice((1, 2, 2, 2, 3))
             told = least_time(steps, hands)
-            self.assertTrue(is_int(told[0], least, least) and is_done_by(web, hands, told[1]))
-            self.assertEqual(end_of(web, told[1]), least)
+            self.assertTrue(is_done_by(web, hands, told[1]))
+            self.assertEqual(end_of(web, told[1]), told[0])
+            # So some plan ends as soon as that: whether any one ends sooner shows among those that begin sooner.
+            plans = [plan for plan in itertools.product(range(told[0]), repeat=len(web)) if is_done_by(web, hands, plan)]
+            least = min(end_of(web, plan) for plan in plans)
+            self.assertTrue(is_int(told[0], least, least), (text, hands))
             for plan in plans if len(plans) < 200 else draw.sample(plans, 200):
                 self.assertIs(shows_least_time(steps, hands, (end_of(web, plan), plan)), end_of(web, plan) == least)
             for value in near_values(told) + odd_values():
@@ -150,6 +151,14 @@ class OfHands(Raising):
         self.assertTrue(shows_least_time(steps, 2, (6, (0, 1, 1, 4, 4))))
         for hands in range(1, 9):
             self.assertTrue(shows_least_time(steps, hands, least_time(steps, hands)))
+
+    def test_the_sequence_of_the_lines_is_not_always_best(self):
+        for text, hands, least in (('step a 1\nstep b 1\nstep c 2', 2, 2), ('step a 5\nstep b 5\nstep c 5\nstep d 9\nstep e 6', 2, 15),
+                                   ('step a 1\nstep b 1\nstep c 1\nstep d 1\nstep e 1\nstep f 4', 2, 5),
+                                   ('step a 4\nstep b 1\nstep c 3 b\nstep d 3\nstep e 1 d', 2, 6)):
+            told = least_time(Steps(text), hands)
+            self.assertEqual(told[0], least)
+            self.assertTrue(shows_least_time(Steps(text), hands, told))
 
     def test_great_ticks(self):
         steps = Steps('\n'.join(f'step {name} {1000 - at}' for at, name in enumerate('abcdef')))

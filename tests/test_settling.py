@@ -201,6 +201,11 @@ class OfSettling(Raising):
         self.assertFalse(shows_settling(NETS, (3, (('a.ann', 'b.cy', 2), ('a.ann', 'a.bob', 5), ('b.dee', 'b.eve', 3)))))
         self.assertFalse(shows_settling(NETS, (4, (('a.ann', 'a.bob', 4), ('a.ann', 'b.cy', 3), ('b.cy', 'a.bob', 1),
                                                   ('b.dee', 'b.eve', 3)))))
+        # Amounts below 0 are no amounts, though the same would come about.
+        self.assertFalse(shows_settling(NETS, (3, (('a.ann', 'a.bob', 5), ('a.ann', 'b.cy', 2), ('b.eve', 'b.dee', -3)))))
+        self.assertFalse(shows_settling((('a.ann', -3), ('a.bob', 3)), (1, (('a.bob', 'a.ann', -3),))))
+        # An empty lot is none, though the lots are as many.
+        self.assertFalse(shows_groups(NETS, ((), ('a.ann', 'a.bob', 'b.cy', 'b.dee', 'b.eve'))))
         self.assertTrue(same(least_settling(()), (0, ())))
         self.assertTrue(same(groups(()), ()))
         self.assertTrue(shows_groups((), ()) and shows_settling((), (0, ())))

@@ -175,6 +175,8 @@ class OfDrafts(Raising):
             self.refused_by_all(5, '\n'.join(lines[:4] + [row]))
         for row in ('posting 3 5 75', 'posting 2 5 75'):
             self.refused_by_all(4, '\n'.join(lines[:3] + [row] + lines[4:]))
+        for row in ('posting 7 5 75', 'posting 5 5 75', 'posting 3 5 75'):
+            self.refused_by_all(5, '\n'.join(lines[:4] + [row] + lines[4:]))
         for row in ('', 'behind 75', 'posting 8 0 75', 'x'):
             self.refused_by_all(6, '\n'.join(lines + [row]))
             self.refused_by_all(6, '\n'.join(lines + [row, row]))
@@ -358,3 +360,5 @@ class OfStatements(Raising):
             self.refused(BadPages, 2, joined_pages, (one, empty, page))
         for page in (off, late):
             self.refused(BadPages, 0, joined_pages, (page,))
+        three, five = 'statement a.b\nbefore 5\nposting 4 0 5\nposting 9 0 5\nbehind 5', 'statement a.b\nbefore 5\nposting 7 0 5\nbehind 5'
+        self.refused(BadPages, 2, joined_pages, (one, three, five))

@@ -42,7 +42,7 @@ def near_values(value):
     if isinstance(value, bool):
         return [not value, int(value), None]
     if isinstance(value, int):
-        return [value + 1, value - 1, -value - 1, str(value), None, (value,)] + ([bool(value)] if value in (0, 1) else [])
+        return [value + 1, value - 1, -value, -value - 1, str(value), None, (value,), [value]] + ([bool(value)] if value in (0, 1) else [])
     if isinstance(value, str):
         return [value + 'x', value[:-1], 'a', '', None, (value,), [value], 0]
     if value is None:
