@@ -22,7 +22,7 @@ def is_deed(value):
 
 
 def kind_of(thing):
-    """"bank" for a Bank, "night" for a Run."""
+    """The kind "bank" for a Bank, "night" for a Run."""
     return BANK if isinstance(thing, Bank) else NIGHT
 
 
@@ -78,7 +78,7 @@ class Desk:
         self._put(name, after)
 
     def thing_kind(self, name):
-        """"bank" or "night"."""
+        """The kind of the thing: "bank" or "night"."""
         return kind_of(self._asked(name))
 
     def thing_of(self, name):

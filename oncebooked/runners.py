@@ -4,7 +4,7 @@ from itertools import permutations
 
 from oncebooked.basics import ascends, is_integer, is_name, is_number, is_row, number_in
 from oncebooked.errors import BadDone, BadNumber, BadRule, BadSteps, BadWeaving, BadWords, TooMany
-from oncebooked.weavings import behind, can_be, first_state, goes_wrong, is_let, SAFE, shortest_wrong
+from oncebooked.weavings import behind, can_be, first_state, goes_wrong, is_let, shortest_wrong
 
 MOST_STEPS = 30
 MOST_TICKS = 1000
@@ -13,6 +13,7 @@ MOST_PLANNED = 6
 MOST_PARTS = 3
 MOST_TAKINGS = 4
 MOST_EVENTS = 200
+SAFE = ("safe",)
 WORDS = ("held", "later", "newest", "undone")
 
 

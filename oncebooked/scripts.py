@@ -107,7 +107,7 @@ def read_bank_in(lines):
 
 
 def read_batch_in(bank, lines, at, texts):
-    """The text of the batch that begins in this place, texts being those ahead of it by the names of branches."""
+    """The batch that begins in this place, texts being those ahead of it by the names of branches."""
     head = read_head(bank, lines[at])
     if head is None or head[0] != len(texts[head[1]]) + 1:
         raise BadDay(at + 1)

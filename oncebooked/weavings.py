@@ -10,7 +10,6 @@ from oncebooked.basics import is_number, is_row
 TAKE = ("take",)
 OUT = ("out",)
 STOPPED = -1
-SAFE = ("safe",)
 
 
 def first_state(parts):
